@@ -1,0 +1,1 @@
+"""Copyplaces: giving means a copy, but where must one really be made?"""
