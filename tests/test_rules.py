@@ -11,6 +11,10 @@ INTERFACE = {
                   "UnknownPath", "UnknownLabel", "UnknownCheckpoint", "UnknownRecord", "LimitExceeded"],
     "programs.py": ["require_program", "labels_of", "spot_paths", "way_count"],
     "flow.py": ["flow_start", "flow"],
+    "values.py": ["run", "values_behind"],
+    "sharing.py": ["run_shared", "cells_behind", "held_behind", "stale_behind"],
+    "facts.py": ["start_facts", "leads", "facts_of", "ways_to"],
+    "safety.py": ["is_safe", "breaking"],
 }
 
 
