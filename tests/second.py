@@ -229,3 +229,45 @@ def looping_program(rng):
     """A program with a loop that may have many rounds."""
     labels = rng.sample(range(8), rng.randint(1, 8))
     return (3, (("loop", any_block(rng, 3, [15, 5], 2, labels)), ("look", 2)))
+
+
+def any_step(rng, names):
+    """A give, or a change, with any label."""
+    if names > 1 and rng.random() < 0.6:
+        x, y = rng.sample(range(names), 2)
+        return ("give", rng.randrange(8), x, y)
+    return ("change", rng.randrange(8), rng.randrange(names), rng.randrange(10))
+
+
+def chosen_steps(rows):
+    """A block in which one of the statements is done, by choices in one another."""
+    if len(rows) == 1:
+        return rows
+    cut = -(-len(rows) // 3)
+    return (("choose", tuple(chosen_steps(rows[k:k + cut]) for k in range(0, len(rows), cut))),)
+
+
+def tangled_program(rng):
+    """A program with many clauses: rounds of chosen gives and changes, and looks behind them."""
+    names = rng.choice((2, 3, 3, 4, 4))
+    rounds = ()
+    # Not more than one of the three has more than three statements to choose from: there may be 12 spots.
+    for sizes in ((1, 2, 3, 6), (0, 1, 2, 3), (0, 0, 1, 3)):
+        many = rng.choice(sizes)
+        if many:
+            rounds += chosen_steps(tuple(any_step(rng, names) for _ in range(many)))
+    if rng.random() < 0.4:
+        rounds += (("look", rng.randrange(names)),)
+    block = tuple(any_step(rng, names) for _ in range(rng.randint(0, 3)))
+    block += (("loop", rounds),) if rng.random() < 0.8 else rounds
+    looks = tuple(("look", x) for x in range(names) if rng.random() < 0.7)
+    return (names, (block + looks)[:8])
+
+
+def pairs_program():
+    """A program whose least clauses are all pairs of the eight labels.
+
+    For each label in turn there is a give, a change, or nothing, as the ways choose.
+    """
+    steps = tuple(("choose", ((("give", p, 1, 0),), (("change", p, 0, p),), ())) for p in range(8))
+    return (4, (("choose", (steps, ())), ("look", 1)))

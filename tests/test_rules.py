@@ -15,6 +15,9 @@ INTERFACE = {
     "sharing.py": ["run_shared", "cells_behind", "held_behind", "stale_behind"],
     "facts.py": ["start_facts", "leads", "facts_of", "ways_to"],
     "safety.py": ["is_safe", "breaking"],
+    "clauses.py": ["bonds", "reasons", "read_clause", "is_clause", "thinned"],
+    "least.py": ["least_copyings", "least_clauses", "price_of", "least_price", "cheapest"],
+    "claims.py": ["require_claim", "decide"],
 }
 
 
