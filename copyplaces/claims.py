@@ -9,7 +9,7 @@ from copyplaces.programs import is_number, require_program
 from copyplaces.safety import breaking
 from copyplaces.trees import price_tree, stays_tree
 
-MOST_PRICE = 999
+MOST_NUMBER = 999
 
 
 def require_claim(claim):
@@ -28,7 +28,7 @@ def is_claim(value):
     if word == "clause":
         return is_copying(about) and about != ()
     if word == "price":
-        return is_number(about, 0, MOST_PRICE)
+        return is_number(about, 0, MOST_NUMBER)
     return word == "stays" and _is_program(about)
 
 

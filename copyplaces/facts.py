@@ -4,18 +4,17 @@ What is said of a spot without its number, ("reached",), ("share", x, y) or
 ("stale", x), is called a sign here: it is what passes through statements.
 """
 
-from copyplaces.flow import flow, flow_start
-from copyplaces.programs import spot_paths, way_count
+from copyplaces.flow import flow, flow_start, flows_of
 
 
 def start_facts(program, copying):
     """Return the start facts, ascending."""
-    return _facts_behind([("reached",)], flow_start(program), copying)
+    return facts_behind([("reached",)], flow_start(program), copying)
 
 
 def leads(program, copying, fact, way):
     """Return the facts to which the possible fact leads by a way of its spot, ascending."""
-    return _facts_behind([fact[1:]], flow(program, fact[0], way), copying)
+    return facts_behind([fact[1:]], flow(program, fact[0], way), copying)
 
 
 def facts_of(program, copying):
@@ -30,7 +29,7 @@ def ways_to(program, copying, fact):
 
 def ways_by_fact(program, copying):
     """Return a dict from each fact to shortest ways to it, in the order of their lengths."""
-    flows = _flows(program)
+    flows = flows_of(program)
     level = start_facts(program, copying)
     found = {fact: () for fact in level}
     # A shortest chain has no fact twice, so it has fewer ways than there are facts.
@@ -38,7 +37,7 @@ def ways_by_fact(program, copying):
         further = []
         for fact in level:
             for way, passing in enumerate(flows[fact[0]]):
-                for told in _facts_behind([fact[1:]], passing, copying):
+                for told in facts_behind([fact[1:]], passing, copying):
                     if told not in found:
                         found[told] = found[fact] + (way,)
                         further.append(told)
@@ -46,13 +45,7 @@ def ways_by_fact(program, copying):
     return found
 
 
-def _flows(program):
-    """Return for each spot the list of what flow tells for its ways."""
-    return [[flow(program, spot, way) for way in range(way_count(program, spot))]
-            for spot in range(len(spot_paths(program)))]
-
-
-def _facts_behind(signs, passing, copying):
+def facts_behind(signs, passing, copying):
     """Return the facts that the signs give at the next spot, ascending; none if there is no spot."""
     passed, spot = passing
     if spot is None:

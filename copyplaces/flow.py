@@ -1,6 +1,6 @@
 """The flow: which statements are passed on the way to the next spot [6]."""
 
-from copyplaces.programs import block_at, blocks_in, is_spot, spot_paths, statement_at
+from copyplaces.programs import block_at, blocks_in, is_spot, spot_paths, statement_at, way_count
 
 
 def flow_start(program):
@@ -14,6 +14,12 @@ def flow(program, spot, way):
     if way < len(blocks_in(statement_at(program, path))):
         return _flow_from(program, path + (way, 0))
     return _flow_from(program, _behind(path))
+
+
+def flows_of(program):
+    """Return for each spot the list of what flow tells for its ways."""
+    return [[flow(program, spot, way) for way in range(way_count(program, spot))]
+            for spot in range(len(spot_paths(program)))]
 
 
 def _flow_from(program, path):

@@ -16,6 +16,7 @@ MOST_SPOTS = 12
 MOST_DEPTH = 5
 LEAST_CHOICES = 2
 MOST_CHOICES = 3
+SPOT_WORDS = ("look", "choose", "loop")
 
 
 def require_program(value):
@@ -64,7 +65,7 @@ def has_label(statement):
 
 def is_spot(statement):
     """Return whether the statement is a look, a choice or a loop."""
-    return statement[0] in ("look", "choose", "loop")
+    return statement[0] in SPOT_WORDS
 
 
 def blocks_in(statement):
@@ -107,13 +108,13 @@ def _require_block(block, names, path):
         raise InvalidProgram(path)
     for index, statement in enumerate(block):
         here = path + (index,)
-        if not _is_statement(statement, names):
+        if not is_statement(statement, names):
             raise InvalidProgram(here)
         for which, inner in enumerate(blocks_in(statement)):
             _require_block(inner, names, here + (which,))
 
 
-def _is_statement(value, names):
+def is_statement(value, names):
     """Return whether the value is a statement, whatever its blocks are."""
     if not isinstance(value, tuple) or len(value) == 0:
         return False

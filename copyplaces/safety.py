@@ -11,7 +11,7 @@ def is_safe(program, copying):
 
 def breaking(program, copying):
     """Return ways whose runs show different things, or None if the copying is safe."""
-    looks = _stale_looks(program)
+    looks = stale_looks(program)
     found = ways_by_fact(program, copying)
     for fact in found:
         if fact in looks:
@@ -20,7 +20,7 @@ def breaking(program, copying):
     return None
 
 
-def _stale_looks(program):
+def stale_looks(program):
     """Return the list of the possible facts that a name is stale at a look of it."""
     facts = []
     for spot, path in enumerate(spot_paths(program)):

@@ -14,7 +14,7 @@ class Tree:
     """
 
     def __init__(self, program, content_of):
-        self.program = program
+        self._program = program
         self.content_of = content_of
         # The fewer labels the clauses have, the smaller the tree is.
         self.clauses = sorted(least_clauses(program), key=len)
@@ -22,10 +22,11 @@ class Tree:
         # Places where the same labels are chosen have the same tree.
         self.tree_at = {}
 
-    def at(self, chosen):
+    def place(self, chosen):
         """Return the tree at a place where these labels are chosen."""
         if chosen not in self.tree_at:
-            content = self.content_of(chosen)
+            content_of = self.content_of
+            content = content_of(chosen)
             if content is None:
                 self.tree_at[chosen] = self._node(chosen)
             else:
@@ -34,21 +35,21 @@ class Tree:
 
     def _node(self, chosen):
         clause = [some for some in self.clauses if not meets(some, chosen)][0]
-        trees = tuple([self.at(with_label(chosen, label)) for label in clause])
+        trees = tuple([self.place(with_label(chosen, label)) for label in clause])
         return ("node", clause, self._ways(clause), trees)
 
     def _ways(self, clause):
         """Return ways that show the clause."""
         if clause not in self.ways_of:
-            self.ways_of[clause] = breaking(self.program, labels_besides(clause))
+            self.ways_of[clause] = breaking(self._program, labels_besides(clause))
         return self.ways_of[clause]
 
 
 def price_tree(program, prices, bound):
     """Return a tree that no safe copying has a price below the bound."""
-    return Tree(program, lambda chosen: () if price_of(chosen, prices) >= bound else None).at(())
+    return Tree(program, lambda chosen: () if price_of(chosen, prices) >= bound else None).place(())
 
 
 def stays_tree(program, old):
     """Return a tree that every copying that is safe for old is safe for the program."""
-    return Tree(old, lambda chosen: facts_of(program, chosen) if is_safe(program, chosen) else None).at(())
+    return Tree(old, lambda chosen: facts_of(program, chosen) if is_safe(program, chosen) else None).place(())

@@ -31,6 +31,17 @@ def walk(program, ways):
     return steps, ("open", spot)
 
 
+def shown_along(program, ways, state):
+    """Do the steps on the state of the names; return what the looks show, and the end."""
+    steps, end = walk(program, ways)
+    shown = []
+    for spot, statement in steps:
+        if statement[0] == "look":
+            shown.append((spot, state.value_of(statement[1])))
+        state.do(statement)
+    return tuple(shown), end
+
+
 def _stretch(program, spot, way):
     """Return the steps from the spot by the way, and the next spot or None."""
     passed, after = _steps_of(flow(program, spot, way))

@@ -9,7 +9,7 @@ from itertools import combinations
 
 from copyplaces.errors import InvalidProgram
 from copyplaces.programs import require_program
-from tests.second import SPOT_WORDS, Run
+from tests.second import SPOT_WORDS, Run, any_copying, tangled_program
 
 LABELS = (0, 1, 2, 3, 4, 5, 6, 7)
 EVEN = (1,) * 8
@@ -170,11 +170,7 @@ def is_claim(value):
         case "price":
             return is_numbers(value[1:], 999)
         case "stays":
-            try:
-                require_program(value[1])
-            except InvalidProgram:
-                return False
-            return True
+            return is_program(value[1])
     return False
 
 
@@ -290,3 +286,78 @@ def faults(program, certificate, prices):
 
 def fault(program, certificate, prices=EVEN):
     return next(faults(program, certificate, prices), None)
+
+
+def any_prices(rng):
+    return tuple(rng.choice((0, 0, 1, 1, 2, 5, 99)) for _ in range(8))
+
+
+def is_program(value):
+    try:
+        require_program(value)
+    except InvalidProgram:
+        return False
+    return True
+
+
+def any_other(rng, program):
+    """Another program: one with a statement more or less, or with nothing in common."""
+    names, block = program
+    at = rng.randint(0, len(block))
+    other = rng.choice((
+        (names, block[:at] + block[at + 1:]),
+        (names, block[:at] + (("look", rng.randrange(names)),) + block[at:]),
+        (4, block[:at] + (("change", rng.randrange(8), rng.randrange(4), 1),) + block[at:]),
+        tangled_program(rng)))
+    return other if is_program(other) else (names, block[1:])
+
+
+def any_claims(rng, program, old, prices):
+    """Claims of all kinds, each with whether it holds."""
+    graph = Graph(program)
+    copyings, _ = least_of(program)
+    least = min(price(copying, prices) for copying in copyings)
+    for copying in [any_copying(rng) for _ in range(3)] + [rng.choice(copyings)]:
+        yield ("safe", copying), graph.safe(copying)
+        if others(copying):
+            yield ("clause", others(copying)), not graph.safe(copying)
+    for number in {0, max(0, least - 1), least, least + 1, rng.randrange(1000), 999}:
+        yield ("price", number), number == least
+    for before in (old, program):
+        yield ("stays", before), all(graph.safe(copying) for copying in least_of(before)[0])
+
+
+def places_in(value, path=()):
+    """The paths of all parts of a value."""
+    yield path
+    if isinstance(value, tuple):
+        for k, part in enumerate(value):
+            yield from places_in(part, path + (k,))
+
+
+def part_at(value, path):
+    for k in path:
+        value = value[k]
+    return value
+
+
+def with_part(value, path, part):
+    if not path:
+        return part
+    return value[:path[0]] + (with_part(value[path[0]], path[1:], part),) + value[path[0] + 1:]
+
+
+def changed(rng, value):
+    """The value with one of its parts, at any depth, changed a little."""
+    paths = list(places_in(value))
+    path = rng.choice(paths)
+    part = part_at(value, path)
+    other = [part_at(value, rng.choice(paths)), None, list(part) if isinstance(part, tuple) else [part]]
+    if isinstance(part, tuple):
+        k = rng.randrange(len(part) + 1)
+        other += [part[:k] + part[k + 1:], part[:k] + part[k:k + 1] + part[k:], part[:k], part[::-1], part + (0,)] * 2
+    elif isinstance(part, int):
+        other += [part + 1, part - 1, rng.randrange(8), bool(part), str(part)] * 2
+    elif isinstance(part, str):
+        other += ["stale", "reached", "node", "leaf", "shown", "broken", "more", "less", "safe", part + " ", 0]
+    return with_part(value, path, rng.choice(other))

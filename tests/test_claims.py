@@ -9,8 +9,9 @@ import unittest
 from copyplaces.claims import decide, require_claim
 from copyplaces.errors import InvalidClaim
 from copyplaces.programs import require_program
-from tests.judged import EVEN, LABELS, Graph, all_copyings, breaks, fault, is_claim, least_of, others, price
-from tests.second import any_copying, any_program, looping_program, pairs_program, tangled_program
+from tests.judged import (EVEN, LABELS, Graph, all_copyings, any_claims, any_other, any_prices, breaks, fault,
+                          is_claim, least_of, others, price)
+from tests.second import any_program, looping_program, pairs_program, tangled_program
 
 EXAMPLE = (2, (("give", 0, 1, 0), ("change", 1, 0, 5), ("look", 1)))
 # The same without the change, so that nothing must be copied.
@@ -226,29 +227,13 @@ class DecideTest(unittest.TestCase):
         words = {}
         for _ in range(70):
             program = rng.choice((tangled_program, tangled_program, any_program, looping_program))(rng)
-            old = rng.choice((tangled_program(rng), (program[0], program[1][1:]), (4, program[1] + (("look", 0),))))
-            old = (old[0], old[1][:8])
-            prices = tuple(rng.choice((0, 0, 1, 1, 2, 5, 99)) for _ in range(8))
-            for claim, holds in self.told(rng, program, old, prices):
+            prices = any_prices(rng)
+            for claim, holds in any_claims(rng, program, any_other(rng, program), prices):
                 word = "shown" if holds else "broken"
                 words[claim[0], word] = words.get((claim[0], word), 0) + 1
                 self.assert_word(program, claim, word, prices)
         self.assertEqual(len(words), 8)
         self.assertGreater(min(words.values()), 10, words)
-
-    def told(self, rng, program, old, prices):
-        """Claims, each with whether it holds."""
-        graph = Graph(program)
-        copyings, _ = least_of(program)
-        least = min(price(copying, prices) for copying in copyings)
-        for copying in [any_copying(rng) for _ in range(3)] + [rng.choice(copyings)]:
-            yield ("safe", copying), graph.safe(copying)
-            if others(copying):
-                yield ("clause", others(copying)), not graph.safe(copying)
-        for number in {0, max(0, least - 1), least, least + 1, rng.randrange(1000), 999}:
-            yield ("price", number), number == least
-        for before in (old, program):
-            yield ("stays", before), all(graph.safe(copying) for copying in least_of(before)[0])
 
 
 class TreeTest(unittest.TestCase):

@@ -8,7 +8,7 @@ import unittest
 from copyplaces.least import cheapest, least_clauses, least_copyings, least_price, price_of
 from copyplaces.programs import require_program
 from copyplaces.safety import is_safe
-from tests.judged import EVEN, LABELS, all_copyings, least_of
+from tests.judged import EVEN, LABELS, all_copyings, any_prices, least_of
 from tests.second import any_program, looping_program, pairs_program, tangled_program
 
 EXAMPLE = (2, (("give", 0, 1, 0), ("change", 1, 0, 5), ("look", 1)))
@@ -129,7 +129,7 @@ class PriceTest(unittest.TestCase):
             program = require_program(tangled_program(rng))
             copyings, _ = least_of(program)
             for _ in range(4):
-                prices = tuple(rng.choice((0, 0, 1, 1, 2, 5, 99)) for _ in range(8))
+                prices = any_prices(rng)
                 costs = [sum(prices[label] for label in copying) for copying in copyings]
                 self.assert_cheapest(program, prices, min(costs), copyings[costs.index(min(costs))])
                 self.assertEqual(min(price_of(copying, prices) for copying in all_copyings()

@@ -18,6 +18,10 @@ INTERFACE = {
     "clauses.py": ["bonds", "reasons", "read_clause", "is_clause", "thinned"],
     "least.py": ["least_copyings", "least_clauses", "price_of", "least_price", "cheapest"],
     "claims.py": ["require_claim", "decide"],
+    "checker.py": ["first_fault"],
+    "store.py": ["run_store", "slots_behind"],
+    "sessions.py": ["Session"],
+    "texts.py": ["format_program", "format_copying", "parse_program", "parse_copying"],
 }
 
 
